@@ -1,0 +1,1 @@
+"""Gates of a fund: more is asked back than may go."""
