@@ -53,8 +53,9 @@ def call_class(house, c, limit, way):
     if not house.has_class(c):
         house.classes[c] = FundClass(limit, way)
         return [0]
-    house.classes[c].limit = limit
-    house.classes[c].way = way
+    fund_class = house.classes[c]
+    fund_class.limit = limit
+    fund_class.way = way
     return [1]
 
 
@@ -125,8 +126,9 @@ def call_suspend(house, c, on):
         return [NO_CLASS]
     if not is_yes_or_no(on):
         return [OUT_OF_RANGE]
-    before = house.classes[c].suspended
-    house.classes[c].suspended = on
+    fund_class = house.classes[c]
+    before = fund_class.suspended
+    fund_class.suspended = on
     return [before]
 
 
@@ -177,8 +179,8 @@ def call_release(house, place, money):
     pocket.given += money
     after = divide(pocket.given, pocket.units)
     parts = [after[h] - before[h] for h in range(HOLDERS)]
-    for h, part in enumerate(parts):
-        house.holders[h].owed += part
+    for holder, part in zip(house.holders, parts):
+        holder.owed += part
     return [pocket.given] + parts
 
 
