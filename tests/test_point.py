@@ -1,6 +1,7 @@
 """The call point, and what a point does."""
 
 from tests.helper import BILLION, FAR, CallCase, ask, ask_house, house_after, last
+from fundgates.points import fund_pot
 
 ALL = 1000000
 TENTH = 100000
@@ -166,6 +167,15 @@ class FundPot(CallCase):
     def test_the_pot_is_at_least_1_and_so_is_what_might_go(self):
         # 200 x 1 / 1000000 is below 1; the piece is class 0's, yet class 1 may go with 1.
         self.assertEqual(self.two(1, [1, 1]), [1, 1, 1, 1])
+
+    def test_the_pot_by_itself(self):
+        # Whether a pot is 0 or 1 no answer shows, as whoever wants something may go with 1 anyway.
+        before = (("class", 0, ALL, 0), ("class", 2, ALL, 0), ("create", 0, 0, 100), ("create", 2, 5, 50))
+        self.assertEqual(fund_pot(house_after(), [0, 0, 0, 0]), 1)
+        self.assertEqual(fund_pot(house_after(*before, ("fund", 1)), [3, 0, 4, 0]), 1)
+        self.assertEqual(fund_pot(house_after(*before, ("fund", 3999)), [3, 0, 4, 0]), 1)
+        self.assertEqual(fund_pot(house_after(*before, ("fund", 4000)), [3, 0, 4, 0]), 2)
+        self.assertEqual(fund_pot(house_after(*before, ("suspend", 0, 1)), [3, 0, 4, 0]), 500)
 
     def test_the_pot_is_no_more_than_1_where_it_would_be_less(self):
         before = (("class", 0, ALL, 0), ("fund", 1), ("create", 0, 0, 100), ("request", 0, 0, 5, 0))
