@@ -1,45 +1,15 @@
-"""The calls: each answers a list of numbers; a refusal is its number alone, and changes nothing."""
+"""The calls that change something; each answers a list of numbers. A refusal is one number and changes nothing."""
 
-from fundgates.house import CLASSES, HOLDERS, MILLION, THINGS, FundClass, Pocket, Request
+from fundgates.house import HOLDERS, FundClass, Pocket, Request
 from fundgates.points import do_point
+from fundgates.ranges import BILLION, NO_CLASS, NOT_THERE, OUT_OF_RANGE, SUSPENDED, TOO_FEW, TOO_MANY
+from fundgates.ranges import are_prices, is_amount, is_class_number, is_holder, is_limit, is_positive_amount, is_thing
+from fundgates.ranges import is_yes_or_no
 from fundgates.sharing import divide
 
-OUT_OF_RANGE = -1
-NO_CLASS = -2
-TOO_MANY = -3
-TOO_FEW = -5
-NOT_THERE = -6
-SUSPENDED = -7
-
-MOST_UNITS = 1000000000
-MOST_STOCK = 1000000000
-MOST_MONEY = 1000000000
 MOST_GIVEN = 1000000000000
-MOST_PRICE = 100000
 MOST_REQUESTS = 200
 MOST_POCKETS = 20
-
-
-def is_holder(h):
-    return 0 <= h < HOLDERS
-
-
-def is_limit(limit):
-    return 1 <= limit <= MILLION
-
-
-def is_units(units):
-    return 1 <= units <= MOST_UNITS
-
-
-def is_yes_or_no(number):
-    return 0 <= number <= 1
-
-
-def is_price(house, c, price):
-    if house.has_class(c):
-        return 1 <= price <= MOST_PRICE
-    return price == 0
 
 
 def call_clear(house):
@@ -48,7 +18,7 @@ def call_clear(house):
 
 
 def call_class(house, c, limit, way):
-    if not (0 <= c < CLASSES and is_limit(limit) and is_yes_or_no(way)):
+    if not (is_class_number(c) and is_limit(limit) and is_yes_or_no(way)):
         return [OUT_OF_RANGE]
     if not house.has_class(c):
         house.classes[c] = FundClass(limit, way)
@@ -70,9 +40,9 @@ def call_fund(house, limit):
 def call_create(house, c, h, units):
     if not house.has_class(c):
         return [NO_CLASS]
-    if not (is_holder(h) and is_units(units)):
+    if not (is_holder(h) and is_positive_amount(units)):
         return [OUT_OF_RANGE]
-    if house.in_issue(c) + units > MOST_UNITS:
+    if house.in_issue(c) + units > BILLION:
         return [TOO_MANY]
     fund_class = house.classes[c]
     fund_class.units[h] += units
@@ -83,7 +53,8 @@ def call_create(house, c, h, units):
 def call_transfer(house, c, from_holder, to_holder, units):
     if not house.has_class(c):
         return [NO_CLASS]
-    if not (is_holder(from_holder) and is_holder(to_holder) and from_holder != to_holder and is_units(units)):
+    both = is_holder(from_holder) and is_holder(to_holder) and from_holder != to_holder
+    if not (both and is_positive_amount(units)):
         return [OUT_OF_RANGE]
     if house.unlocked(c, from_holder) < units:
         return [TOO_FEW]
@@ -96,7 +67,7 @@ def call_transfer(house, c, from_holder, to_holder, units):
 def call_request(house, c, h, units, kind):
     if not house.has_class(c):
         return [NO_CLASS]
-    if not (is_holder(h) and is_units(units) and is_yes_or_no(kind)):
+    if not (is_holder(h) and is_positive_amount(units) and is_yes_or_no(kind)):
         return [OUT_OF_RANGE]
     if len(house.requests) >= MOST_REQUESTS:
         return [TOO_MANY]
@@ -108,9 +79,9 @@ def call_request(house, c, h, units, kind):
 
 
 def call_withdraw(house, place, units):
-    if not 0 <= place < len(house.requests):
+    if not house.has_request(place):
         return [NOT_THERE]
-    if not is_units(units):
+    if not is_positive_amount(units):
         return [OUT_OF_RANGE]
     request = house.requests[place]
     if house.classes[request.c].suspended == 1:
@@ -135,21 +106,18 @@ def call_suspend(house, c, on):
 def call_stock(house, c, thing, amount):
     if not house.has_class(c):
         return [NO_CLASS]
-    if not (0 <= thing < THINGS and 0 <= amount <= MOST_STOCK):
+    if not (is_thing(thing) and is_amount(amount)):
         return [OUT_OF_RANGE]
     stock = house.classes[c].stock
-    if stock[thing] + amount > MOST_STOCK:
+    if stock[thing] + amount > BILLION:
         return [TOO_MANY]
     stock[thing] += amount
     return [stock[thing]]
 
 
 def call_point(house, prices):
-    if len(prices) != CLASSES:
+    if not are_prices(house, prices):
         return [OUT_OF_RANGE]
-    for c, price in enumerate(prices):
-        if not is_price(house, c, price):
-            return [OUT_OF_RANGE]
     before = house.point
     return [before] + do_point(house, prices)
 
@@ -168,9 +136,9 @@ def call_pocket(house, c):
 
 
 def call_release(house, place, money):
-    if not 0 <= place < len(house.pockets):
+    if not house.has_pocket(place):
         return [NOT_THERE]
-    if not 1 <= money <= MOST_MONEY:
+    if not is_positive_amount(money):
         return [OUT_OF_RANGE]
     pocket = house.pockets[place]
     if pocket.given + money > MOST_GIVEN:
@@ -184,7 +152,17 @@ def call_release(house, place, money):
     return [pocket.given] + parts
 
 
-# In the order of the calls' numbers.
+def call_payout(house, h):
+    if not is_holder(h):
+        return [OUT_OF_RANGE]
+    holder = house.holders[h]
+    money = holder.owed
+    holder.out += money
+    holder.owed = 0
+    return [money]
+
+
+# The calls 0 to 12, in the order of their numbers.
 CALLS = (
     call_clear,
     call_class,
@@ -198,4 +176,5 @@ CALLS = (
     call_point,
     call_pocket,
     call_release,
+    call_payout,
 )

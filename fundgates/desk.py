@@ -2,10 +2,11 @@
 
 from fundgates.calls import CALLS
 from fundgates.house import House
+from fundgates.tells import TELLS
 
 # By the calls' numbers: how many whole numbers each takes ahead of its row, if it has one.
-WHOLE_NUMBERS = (0, 3, 1, 3, 4, 4, 2, 2, 3, 0, 1, 2)
-WITH_ROW = (9,)
+WHOLE_NUMBERS = (0, 3, 1, 3, 4, 4, 2, 2, 3, 0, 1, 2, 1, 2, 1, 1, 1, 1, 1, 1, 2, 1, 0)
+WITH_ROW = (9, 21)
 
 
 def answers(calls):
@@ -25,11 +26,17 @@ def answers_of(house, calls):
             row_end = end + 1 + calls[end]
             handed.append(calls[end + 1:row_end])
             end = row_end
-        answer = answer_of(CALLS[number], house, handed)
+        answer = answer_of(call_of(number), house, handed)
         given.append(len(answer))
         given.extend(answer)
         at = end
     return given
+
+
+def call_of(number):
+    if number < len(CALLS):
+        return CALLS[number]
+    return TELLS[number - len(CALLS)]
 
 
 def answer_of(call, house, handed):

@@ -74,6 +74,12 @@ class House:
     def has_class(self, c):
         return 0 <= c < CLASSES and self.classes[c] is not None
 
+    def has_request(self, place):
+        return 0 <= place < len(self.requests)
+
+    def has_pocket(self, place):
+        return 0 <= place < len(self.pockets)
+
     def in_issue(self, c):
         """The units of class c in issue, 0 if it is not there."""
         if not self.has_class(c):

@@ -18,6 +18,17 @@ NUMBERS = {
     "point": 9,
     "pocket": 10,
     "release": 11,
+    "payout": 12,
+    "holding": 13,
+    "requestat": 14,
+    "waits": 15,
+    "money": 16,
+    "things": 17,
+    "classinfo": 18,
+    "stockat": 19,
+    "pocketat": 20,
+    "share": 21,
+    "counts": 22,
 }
 BILLION = 10 ** 9
 FAR = 10 ** 18
@@ -59,6 +70,16 @@ def last(*calls):
     return ask(*calls)[-1]
 
 
+def ask_behind(before, *calls):
+    """The answers to the calls alone that stand behind others."""
+    return ask(*before, *calls)[len(before):]
+
+
+def twenty(places):
+    """Twenty numbers, one a holder: those told by their holders' numbers, the others 0."""
+    return [places.get(h, 0) for h in range(20)]
+
+
 def ask_house(house, *calls):
     return split(desk.answers_of(house, flat(calls)))
 
@@ -84,6 +105,13 @@ class CallCase(unittest.TestCase):
         house = house_after(*before)
         kept = plain(house)
         self.assertEqual(ask_house(house, call), [[refusal]], call)
+        self.assertEqual(plain(house), kept, call)
+
+    def assert_told(self, before, call, answer):
+        """The call gives this answer, also a second time, and the house is as it was."""
+        house = house_after(*before)
+        kept = plain(house)
+        self.assertEqual(ask_house(house, call, call), [answer, answer], call)
         self.assertEqual(plain(house), kept, call)
 
     def assert_answer(self, before, call, answer):

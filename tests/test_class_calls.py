@@ -1,12 +1,24 @@
 """The calls clear, class, fund, suspend and stock."""
 
-from tests.helper import BILLION, FAR, CallCase, ask, house_after, last, plain
+from tests.helper import BILLION, FAR, CallCase, ask, ask_behind, house_after, last, plain
 from fundgates.house import House
 
 CLASS = ("class", 0, 1000000, 0)
 # One call of each that names a class that must be there, but for its class.
 WITHOUT_CLASS = (
-    ("create", 0, 1), ("transfer", 0, 1, 1), ("request", 0, 1, 0), ("suspend", 1), ("stock", 0, 1), ("pocket",))
+    ("create", 0, 1), ("transfer", 0, 1, 1), ("request", 0, 1, 0), ("suspend", 1), ("stock", 0, 1), ("pocket",),
+    ("holding", 0), ("waits",), ("classinfo",), ("stockat",))
+
+
+def eleven_calls():
+    """The calls payout to counts, each for several holders, classes and places."""
+    calls = [("share", 4, [10, 10, 5]), ("counts",)]
+    for k in (0, 1, 2, 3, 19):
+        for name in ("payout", "requestat", "waits", "money", "things", "classinfo", "stockat"):
+            calls.append((name, k))
+        for place in (0, 1):
+            calls += [("holding", place, k), ("pocketat", place, k)]
+    return calls
 
 
 class Clear(CallCase):
@@ -26,6 +38,47 @@ class Clear(CallCase):
             ("request", 0, 3, 1, 0), ("point", [2, 0, 0, 0]), ("create", 0, 3, 1), ("pocket", 0))
         self.assertEqual(given[5:], [
             [0], [1000000], [-2], [-6], [-6], [0], [1], [0], [0, 1, 1, 0, 0, 0, 0, 0, 0], [1], [0]])
+
+
+    def test_the_calls_that_tell_something_answer_as_at_the_beginning(self):
+        before = (
+            CLASS, ("class", 1, 5, 1), ("fund", 5), ("create", 0, 3, 40), ("create", 1, 3, 40), ("stock", 0, 1, 9),
+            ("request", 0, 3, 7, 1), ("request", 0, 3, 7, 0), ("request", 1, 3, 9, 0), ("withdraw", 2, 1),
+            ("point", [2, 3, 0, 0]), ("pocket", 0), ("pocket", 1), ("release", 0, 10), ("release", 1, 20),
+            ("payout", 3), ("release", 0, 1), ("suspend", 1, 1))
+        told = eleven_calls()
+        at_first = ask(*told)
+        self.assertEqual(ask_behind(before + (("clear",),), *told), at_first)
+        self.assertEqual(ask_behind(before + (("clear",), ("clear",)), *told), at_first)
+        self.assertNotEqual(ask_behind(before, *told), at_first)
+
+    def test_each_of_these_by_itself(self):
+        before = (
+            CLASS, ("fund", 5), ("create", 0, 3, 40), ("stock", 0, 1, 9), ("request", 0, 3, 7, 1),
+            ("request", 0, 3, 7, 0), ("point", [2, 0, 0, 0]), ("pocket", 0), ("release", 0, 10), ("payout", 3),
+            ("release", 0, 10))
+        for call, used, cleared in (
+                (("payout", 3), [10], [0]), (("holding", 0, 3), [39, 13], [-2]),
+                (("requestat", 0), [0, 3, 0, 1, 7, 1, 0, 6], [-6]),
+                (("waits", 0), [13] + [0] * 3 + [13] + [0] * 16, [-2]), (("money", 3), [10, 10], [0, 0]),
+                (("things", 3), [0] * 5, [0] * 5), (("classinfo", 0), [39, 40, 1, 1000000, 0, 0], [-2]),
+                (("stockat", 0), [0, 9, 0, 0, 0], [-2]), (("pocketat", 0, 3), [0, 39, 39, 20, 20], [-6]),
+                (("share", 4, [10, 10, 5]), [0, 2, 2, 0], [0, 2, 2, 0]), (("counts",), [1, 5, 2, 1], [0, 1000000, 0, 0])):
+            self.assert_answer(before, call, used)
+            self.assert_answer(before + (("clear",),), call, cleared)
+
+    def test_a_class_made_again_is_a_new_one(self):
+        before = (
+            CLASS, ("create", 0, 3, 40), ("stock", 0, 1, 80), ("request", 0, 3, 20, 1), ("suspend", 0, 1),
+            ("clear",), ("class", 0, 7, 1))
+        self.assertEqual(
+            ask_behind(before, ("classinfo", 0), ("stockat", 0), ("waits", 0), ("holding", 0, 3)),
+            [[0, 0, 0, 7, 1, 0], [0] * 5, [0] * 21, [0, 0]])
+
+    def test_things_that_were_got_are_gone(self):
+        before = (CLASS, ("create", 0, 3, 4), ("stock", 0, 1, 9), ("request", 0, 3, 2, 1), ("point", [2, 0, 0, 0]))
+        self.assert_answer(before, ("things", 3), [0, 4, 0, 0, 0])
+        self.assert_answer(before + (("clear",),), ("things", 3), [0] * 5)
 
 
 class Class(CallCase):

@@ -110,6 +110,10 @@ class Language(unittest.TestCase):
                 if isinstance(node, ast.Assign):
                     names.append(node.targets[0].id)
                     self.assertNotIsInstance(node.value, (ast.List, ast.Dict, ast.Call), path)
+                    above = {other.name for other in tree.body[:tree.body.index(node)]
+                             if isinstance(other, ast.FunctionDef)}
+                    held = {part.id for part in ast.walk(node.value) if isinstance(part, ast.Name)}
+                    self.assertEqual(held - above, set(), path)
                 if isinstance(node, (ast.FunctionDef, ast.ClassDef)):
                     names.append(node.name)
                 if isinstance(node, ast.ImportFrom):

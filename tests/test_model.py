@@ -5,7 +5,7 @@ import unittest
 from collections import Counter
 from fractions import Fraction
 
-from tests.helper import BILLION, ask_house
+from tests.helper import BILLION, ask, ask_house
 from fundgates.house import House
 
 
@@ -42,7 +42,10 @@ class Model:
         self.rows = []
         self.pockets = []
         self.owed = Counter()
+        self.gone = Counter()
         self.got = Counter()
+        self.made = Counter()
+        self.ended = Counter()
         return [0]
 
     def issue(self, c):
@@ -72,6 +75,7 @@ class Model:
         if self.issue(c) + units > BILLION:
             return [-3]
         self.units[c, h] += units
+        self.made[c] += units
         return [self.units[c, h]]
 
     def transfer(self, c, giver, taker, units):
@@ -94,7 +98,7 @@ class Model:
             return [-3]
         if units > self.free(c, h):
             return [-5]
-        self.rows.append({"c": c, "h": h, "at": self.at, "kind": kind, "left": units})
+        self.rows.append({"c": c, "h": h, "at": self.at, "kind": kind, "asked": units, "left": units, "back": 0})
         return [len(self.rows) - 1]
 
     def withdraw(self, place, units):
@@ -108,6 +112,7 @@ class Model:
         if units > row["left"]:
             return [-5]
         row["left"] -= units
+        row["back"] += units
         return [row["left"]]
 
     def suspend(self, c, on):
@@ -171,6 +176,7 @@ class Model:
     def pay_row(self, row, units, price, store, issue):
         row["left"] -= units
         self.units[row["c"], row["h"]] -= units
+        self.ended[row["c"]] += units
         if row["kind"] == 0:
             self.owed[row["h"]] += units * price
         elif units:
@@ -185,7 +191,7 @@ class Model:
             return [-3]
         if not self.issue(c):
             return [-5]
-        self.pockets.append([{h: self.units[c, h] for h in range(20)}, 0])
+        self.pockets.append([{h: self.units[c, h] for h in range(20)}, 0, c, Counter()])
         return [len(self.pockets) - 1]
 
     def release(self, place, money):
@@ -193,14 +199,75 @@ class Model:
             return [-6]
         if money not in range(1, BILLION + 1):
             return [-1]
-        weights, given = self.pockets[place]
+        weights, given, c, had = self.pockets[place]
         if given + money > 10 ** 12:
             return [-3]
         before, after = portion(given, weights), portion(given + money, weights)
         self.pockets[place][1] = given + money
         parts = [after[h] - before[h] for h in range(20)]
         self.owed.update(dict(enumerate(parts)))
+        had.update(dict(enumerate(parts)))
         return [given + money] + parts
+
+    def payout(self, h):
+        if h not in range(20):
+            return [-1]
+        money = self.owed.pop(h, 0)
+        self.gone[h] += money
+        return [money]
+
+    def holding(self, c, h):
+        if c not in self.terms:
+            return [-2]
+        if h not in range(20):
+            return [-1]
+        return [self.units[c, h], self.units[c, h] - self.free(c, h)]
+
+    def requestat(self, place):
+        if place not in range(len(self.rows)):
+            return [-6]
+        row = self.rows[place]
+        paid = row["asked"] - row["back"] - row["left"]
+        return [row["c"], row["h"], row["at"], row["kind"], row["asked"], paid, row["back"], row["left"]]
+
+    def waits(self, c):
+        if c not in self.terms:
+            return [-2]
+        each = Counter()
+        for row in self.rows:
+            if row["c"] == c:
+                each[row["h"]] += row["left"]
+        return [sum(each.values())] + [each[h] for h in range(20)]
+
+    def money(self, h):
+        return [self.owed[h], self.gone[h]] if h in range(20) else [-1]
+
+    def things(self, h):
+        return [self.got[h, thing] for thing in range(5)] if h in range(20) else [-1]
+
+    def classinfo(self, c):
+        if c not in self.terms:
+            return [-2]
+        return [self.made[c] - self.ended[c], self.made[c], self.ended[c], *self.terms[c], self.shut[c]]
+
+    def stockat(self, c):
+        return [self.store[c, thing] for thing in range(5)] if c in self.terms else [-2]
+
+    def pocketat(self, place, h):
+        if place not in range(len(self.pockets)):
+            return [-6]
+        if h not in range(20):
+            return [-1]
+        weights, given, c, had = self.pockets[place]
+        return [c, weights[h], sum(weights.values()), given, had[h]]
+
+    def share(self, pot, asks):
+        if len(asks) not in range(1, 21) or not all(0 <= number <= BILLION for number in [pot] + asks):
+            return [-1]
+        return [0] + list(ration(pot, dict(enumerate(asks))).values())
+
+    def counts(self):
+        return [self.at, self.gate, len(self.rows), len(self.pockets)]
 
 
 def random_call(source, scale, holders, there):
@@ -223,35 +290,67 @@ def random_call(source, scale, holders, there):
         ("point", [odd(source.choice((1, 2, 3, 10, 77, 100000)) if k in there else 0) for k in range(4)]),
         ("pocket", c),
         ("release", odd(source.randrange(3)), few),
+        ("payout", h),
+        ("clear",),
+        ("holding", c, h),
+        ("requestat", odd(source.randrange(40))),
+        ("waits", c),
+        ("money", h),
+        ("things", h),
+        ("classinfo", c),
+        ("stockat", c),
+        ("pocketat", odd(source.randrange(3)), h),
+        ("share", few, [odd(source.randint(0, scale)) for k in range(source.choice((0, 1, 2, 3, 5, 20, 21)))]),
+        ("counts",),
     ]
-    return source.choices(calls, (1, 1, 6, 3, 12, 2, 1, 3, 6, 1, 3))[0]
+    weights = (10, 10, 60, 30, 120, 20, 10, 30, 60, 10, 30, 20, 1) + (10,) * 10
+    return source.choices(calls, weights)[0]
+
+
+def all_told(model):
+    """Calls that tell all of a house, just beyond its edges too."""
+    calls = [("counts",)]
+    for h in range(-1, 21):
+        calls += [("money", h), ("things", h)]
+    for c in range(-1, 5):
+        calls += [("waits", c), ("classinfo", c), ("stockat", c)] + [("holding", c, h) for h in range(-1, 21)]
+    calls += [("requestat", place) for place in range(-1, len(model.rows) + 1)]
+    for place in range(-1, len(model.pockets) + 1):
+        calls += [("pocketat", place, h) for h in range(-1, 21)]
+    return calls
 
 
 class AgainstModel(unittest.TestCase):
     def run_line(self, seed):
+        """Call by call on one house, and then as a whole line from the beginning."""
         source = random.Random(seed)
         scale = source.choice((3, 12, 60, 1000, 10 ** 8))
         holders = source.choice((1, 2, 5, 20))
         house = House()
         model = Model()
-        calls = [("class", c, source.choice((100000, 300000, 10 ** 6)), source.randrange(2))
-                 for c in range(4) if source.random() < 0.8]
-        while len(calls) < 120:
-            calls.append(None)
-        for call in calls:
-            call = call or random_call(source, scale, holders, model.terms)
-            self.assertEqual(ask_house(house, call), [model.answer(call)], (seed, call))
+        calls = []
+        given = []
+        firsts = [("class", c, source.choice((100000, 300000, 10 ** 6)), source.randrange(2))
+                  for c in range(4) if source.random() < 0.8]
+        for turn in range(150):
+            call = firsts.pop() if firsts else random_call(source, scale, holders, model.terms)
+            calls.append(call)
+            given += ask_house(house, call)
+            self.assertEqual(given[-1], model.answer(call), (seed, call))
             self.check(house, model)
+        told = all_told(model)
+        self.assertEqual(ask_house(house, *told), [model.answer(call) for call in told], seed)
+        self.assertEqual(ask(*calls), given, seed)
 
     def check(self, house, model):
+        """What must be after every call, told or not."""
         for h, holder in enumerate(house.holders):
-            self.assertEqual(holder.owed, model.owed[h])
-            self.assertEqual(holder.out, 0)
-            self.assertEqual(holder.got, [model.got[h, thing] for thing in range(5)])
+            self.assertEqual([holder.owed, holder.out], model.money(h))
+            self.assertEqual(holder.got, model.things(h))
         for c in model.terms:
             fund_class = house.classes[c]
             self.assertEqual(fund_class.units, [model.units[c, h] for h in range(20)])
-            self.assertEqual(fund_class.stock, [model.store[c, thing] for thing in range(5)])
+            self.assertEqual(fund_class.stock, model.stockat(c))
             self.assertEqual(fund_class.created - fund_class.cancelled, fund_class.in_issue())
             self.assertGreaterEqual(min(house.unlocked(c, h) for h in range(20)), 0)
         self.assertEqual([request.waiting() for request in house.requests], [row["left"] for row in model.rows])
